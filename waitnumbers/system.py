@@ -240,8 +240,8 @@ class System:
     def __bool__(self):
         return bool(self.tables)
 
-    def __contains__(self, process):
-        return is_integer(process) and process in self.tables
+    def __contains__(self, x):
+        return is_integer(x) and x in self.tables
 
     def __repr__(self):
         return f"System({self.process_limit}, {self.number_limit}, {len(self.tables)} alive)"
@@ -352,7 +352,7 @@ class System:
             for process in sorted(self.tables)
         ]
         kept = [
-            self.sources[thing] if thing in self.sources else self.sets[thing].state(places)
+            self.sources[thing] if thing in self.sources else self.sets[thing].contents(places)
             for thing in found
         ]
         return (self.limits, tuple(tables), tuple(kept))

@@ -84,7 +84,7 @@ class WaitingSet:
         if kept.word == "once":
             self.entries[label] = Registration(kept.number, kept.source, kept.word, False)
 
-    def state(self, places):
+    def contents(self, places):
         """All that equal sets have in common, sources by their places."""
         entries = [
             (label, kept.number, places[kept.source], kept.word, kept.armed)
