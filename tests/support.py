@@ -2,6 +2,9 @@
 
 import unittest
 
+from waitnumbers.calls import read_calls
+from waitnumbers.system import System
+
 # Any objects in the sense of point [2]. None of them is an integer from 0 to
 # 1,000,000, a word or the text of a call.
 JUNK = [
@@ -40,6 +43,20 @@ PLAIN_CALLS = [
     ("add", 0, 0, 1, 7, "level"), ("change", 0, 0, 1, "edge"), ("remove", 0, 0, 1),
     ("wait", 0, 0, 1), ("numbers", 0), ("same", 0, 0, 0, 1), ("units", 0, 0),
 ]
+
+
+def calls_of(text):
+    """The calls of a text in which they are parted by semicolons."""
+    return read_calls("\n".join([part.strip() for part in text.split(";") if part.strip()]))
+
+
+def system_of(text, processes=4, numbers=8):
+    """A system in which the calls of such a text were done, each without an error."""
+    system = System(processes=processes, numbers=numbers)
+    for call in calls_of(text):
+        answer = system.answer(call)
+        assert not isinstance(answer, str), (call, answer)
+    return system
 
 
 def shown(system):

@@ -4,6 +4,7 @@ from waitnumbers.errors import BadCall
 
 MOST_COUNT = 1000000
 MOST_LABEL = 999999
+MOST_CALLS = 500
 WORDS = ("level", "edge", "once")
 
 # The sixteen calls, with what the text of each argument may be: an optional one
@@ -61,6 +62,13 @@ def is_call(x):
     if not isinstance(name, str) or name not in ARGUMENTS:
         return False
     return len(x) == 1 + len(ARGUMENTS[name])
+
+
+def is_row(x):
+    """Whether any object is a list or tuple of calls that is not too long."""
+    if not isinstance(x, (list, tuple)) or len(x) > MOST_CALLS:
+        return False
+    return all([is_call(call) for call in x])
 
 
 def check_calls(calls):

@@ -92,11 +92,11 @@ class System:
     def fork(self, process):
         """Make the lowest free process number alive with the same table, and return it."""
         table = self.table_of(process)
-        for other in range(self.process_limit):
-            if other not in self.tables:
-                self.tables[other] = list(table)
-                return other
-        raise NoRoom()
+        other = self.free_process()
+        if other is None:
+            raise NoRoom()
+        self.tables[other] = list(table)
+        return other
 
     def end(self, process):
         """Close all numbers of a process, and make its process number free."""
@@ -284,6 +284,13 @@ class System:
                 return number
         raise Full(process)
 
+    def free_process(self):
+        """The lowest free process number, or None."""
+        for process in range(self.process_limit):
+            if process not in self.tables:
+                return process
+        return None
+
     def new_thing(self, process):
         """Let the lowest free number mean a new thing, and return both."""
         number = self.free_number(process)
@@ -320,6 +327,11 @@ class System:
         unread, finished = self.sources[source]
         return unread > 0 or finished
 
+    def is_finished(self, source):
+        """Whether a source is finished."""
+        unread, finished = self.sources[source]
+        return finished
+
     def notify(self, source):
         """Let all sets know that units arrived, or that a source finished."""
         for waiting in self.sets.values():
@@ -334,25 +346,35 @@ class System:
                     found.append(thing)
         return found
 
+    def numbers_of(self, thing):
+        """The numbers that mean a thing, each with its process."""
+        return [
+            (process, number)
+            for process in sorted(self.tables)
+            for number, meant in enumerate(self.tables[process])
+            if meant == thing
+        ]
+
     def name_of(self, thing):
         """The least process and number that mean a thing."""
-        return min([
-            (process, number)
-            for process, table in self.tables.items()
-            for number, meant in enumerate(table)
-            if meant == thing
+        return self.numbers_of(thing)[0]
+
+    def places(self):
+        """The things that exist, by their names, and the place of each among them."""
+        return {thing: at for at, thing in enumerate(self.things())}
+
+    def placed_tables(self, places):
+        """The tables of all alive processes, things by their places."""
+        return tuple([
+            (process, tuple([places.get(meant, -1) for meant in self.tables[process]]))
+            for process in sorted(self.tables)
         ])
 
     def state(self):
-        """All that equal systems have in common, things by their places in order."""
-        found = self.things()
-        places = {thing: at for at, thing in enumerate(found)}
-        tables = [
-            (process, tuple([places.get(meant, -1) for meant in self.tables[process]]))
-            for process in sorted(self.tables)
-        ]
+        """All that equal systems have in common, things by their places."""
+        places = self.places()
         kept = [
             self.sources[thing] if thing in self.sources else self.sets[thing].contents(places)
-            for thing in found
+            for thing in places
         ]
-        return (self.limits, tuple(tables), tuple(kept))
+        return (self.limits, self.placed_tables(places), tuple(kept))
