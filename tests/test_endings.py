@@ -349,9 +349,11 @@ class Searched(Endings):
     def test_small_systems_with_one_process(self):
         counts = {}
         for start in worlds.STARTS:
-            for calls in worlds.small_systems(start, 2, 3, 800):
-                if len(System.played(calls, processes=2, numbers=3)) == 1:
-                    self.compare(calls, (2, 3), counts)
+            found = worlds.small_systems(start, 2, 3, 1000, forks=False)
+            # All of them: tables with the set, the source, and nothing, one of them again or a new thing.
+            self.assertEqual(len(found), 24)
+            for calls in found:
+                self.compare(calls, (2, 3), counts)
         self.assertEqual(sorted(counts), [1, 3, 4, 5])
         self.assertGreater(min(counts.values()), 5, counts)
 

@@ -15,10 +15,10 @@ STARTS = [
 ]
 
 
-def table_calls(system):
-    """All calls that could change which things the numbers mean."""
+def table_calls(system, forks):
+    """All calls that could change which things the numbers mean, with forks or without."""
     for process in system.alive():
-        for name in ("new_source", "new_set", "fork", "end"):
+        for name in ("new_source", "new_set", "fork", "end") if forks else ("new_source", "new_set"):
             yield (name, process)
         for number, kind in system.numbers(process):
             yield ("close", process, number)
@@ -31,10 +31,10 @@ def key_of(system):
     return repr((shortest.tables_of(system), kinds, system.registrations()))
 
 
-def small_systems(start, processes, numbers, most):
+def small_systems(start, processes, numbers, most, forks=True):
     """The calls that lead to each of the unlike small systems with the registration.
 
-    They come in the order of the number of calls, at most so many.
+    They come in the order of the number of calls, at most so many systems.
     """
     calls = tuple(support.calls_of(start))
     system = System.played(calls, processes=processes, numbers=numbers)
@@ -44,7 +44,7 @@ def small_systems(start, processes, numbers, most):
     while level and len(found) < most:
         behind = []
         for calls, system in level:
-            for call in table_calls(system):
+            for call in table_calls(system, forks):
                 other = system.twin()
                 if isinstance(other.answer(call), str) or not other.registrations():
                     continue
