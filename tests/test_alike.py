@@ -1,48 +1,12 @@
-"""Point [17]: quiet registrations, and each difference that can be told or cannot."""
+"""Points [17] and [18]: each difference that can be told or cannot, and quiet registrations."""
 
 import unittest
 
-import probes
 import support
 import worlds
-from waitnumbers.alike import alike, is_quiet
-from waitnumbers.calls import answers
+from pairs import SEAL, START, WORDS, Pairs
+from waitnumbers.alike import is_quiet
 from waitnumbers.system import System
-
-# A set 0, and a source with the numbers 1 and 2.
-START = "new_set 0; new_source 0; copy 0 1 2; "
-# The process 0 keeps the source alone, the process 1 the set alone.
-SEAL = "; fork 0; close 0 0; close 1 1; close 1 2"
-WORDS = ["level", "edge", "once"]
-
-
-class Pairs(support.Case):
-    def pair(self, one, other, wanted, drawn=6):
-        """Both ways round; rows of calls tell them apart exactly if they are not alike."""
-        before = support.shown(one), support.shown(other)
-        twins = one.twin(), other.twin()
-        self.exactly(alike(one, other), wanted)
-        self.exactly(alike(other, one), wanted)
-        self.exactly([alike(one, one), alike(other, other.twin())], [True, True])
-        self.assertEqual((support.shown(one), support.shown(other)), before)
-        self.assertTrue(one == twins[0] and other == twins[1])
-        told = probes.told_apart(one, other)
-        self.assertEqual(told is None, wanted, told)
-        if wanted:
-            for seed in range(drawn):
-                grower = worlds.grower(seed, *one.limits)
-                row = [grower.call() for call in range(80)]
-                self.exactly(answers(one.twin(), row), answers(other.twin(), row))
-
-    def alike_not_equal(self, text, other_text, **limits):
-        one, other = support.system_of(text, **limits), support.system_of(other_text, **limits)
-        self.assertFalse(one == other)
-        self.pair(one, other, True)
-
-    def told(self, text, other_text, **limits):
-        one, other = support.system_of(text, **limits), support.system_of(other_text, **limits)
-        self.assertFalse(one == other)
-        self.pair(one, other, False)
 
 
 class CannotBeTold(Pairs):

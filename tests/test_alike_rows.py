@@ -1,4 +1,4 @@
-"""Points [3] and [17]: alike exactly if no row of calls has different answers."""
+"""Points [3], [17] and [18]: alike exactly if no row of calls has different answers."""
 
 import random
 import unittest
@@ -6,6 +6,7 @@ import unittest
 import probes
 import support
 import worlds
+from pairs import Pairs
 from waitnumbers.alike import alike
 from waitnumbers.calls import answers
 from waitnumbers.system import System
@@ -13,7 +14,7 @@ from waitnumbers.system import System
 START = "new_set 0; new_source 0; copy 0 1 2; add 0 0 1 6 edge; add 0 0 2 7 once"
 
 
-class Drawn(support.Case):
+class Drawn(Pairs):
     def row_of(self, grower):
         calls = grower.grown(support.calls_of(START), grower.random.randrange(6, 40))
         if grower.random.random() < 0.6:
@@ -25,6 +26,8 @@ class Drawn(support.Case):
         """No row of calls may tell alike systems apart; some row tells others apart."""
         wanted = alike(one, other)
         self.exactly(alike(other, one), wanted)
+        self.assertIs(self.parted(one, other) is None, wanted)
+        self.assertIs(self.parted(other, one) is None, wanted)
         told = probes.told_apart(one, other)
         self.assertEqual(told is None, wanted, (support.shown(one), support.shown(other), told))
         if wanted:

@@ -4,7 +4,7 @@ import inspect
 import unittest
 
 import support
-from waitnumbers import calls, errors
+from waitnumbers import alike, calls, console, crews, errors, experiments, plans, reaching, strays
 from waitnumbers.calls import answers, read_calls, show_calls
 from waitnumbers.errors import NoProcess, NotOpen
 from waitnumbers.system import System
@@ -91,15 +91,41 @@ class Interface(support.Case):
         self.assertEqual(str(inspect.signature(System.played)), "(calls, *, processes=4, numbers=8)")
         self.assertEqual(System.__module__, "waitnumbers.system")
 
-    def test_functions_stand_in_their_file(self):
+    def test_other_classes(self):
         wanted = {
-            "answers": "(system, calls)", "show_call": "(call)", "read_call": "(text)",
-            "show_calls": "(calls)", "read_calls": "(text)", "show_answer": "(answer)",
+            crews.Crew: {
+                "__init__": "(self, system, *workers)", "possible": "(self)", "after": "(self, index)",
+                "is_stray": "(self, index)", "done": "(self, schedule)", "taken": "(self, worker)",
+                "made": "(self, worker)", "system": "(self)", "__eq__": "(self, other)", "__len__": "(self)",
+            },
+            console.Console: {"__init__": "(self, *, processes=4, numbers=8)", "say": "(self, command)"},
         }
-        for name, signature in wanted.items():
-            made = getattr(calls, name)
-            self.assertEqual(made.__module__, "waitnumbers.calls")
-            self.assertEqual(str(inspect.signature(made)), signature)
+        for made, methods in wanted.items():
+            for name, signature in methods.items():
+                self.assertEqual(str(inspect.signature(vars(made)[name])), signature)
+        self.assertEqual([made.__module__ for made in wanted], ["waitnumbers.crews", "waitnumbers.console"])
+
+    def test_functions_stand_in_their_file(self):
+        named = "(system, set_name, label)"
+        wanted = {
+            calls: {
+                "answers": "(system, calls)", "show_call": "(call)", "read_call": "(text)",
+                "show_calls": "(calls)", "read_calls": "(text)", "show_answer": "(answer)",
+            },
+            reaching: {"is_reached": named, "is_sealed": named, "closings": named},
+            plans: {"ending": named, "shows_ending": "(system, set_name, label, calls)"},
+            alike: {"is_quiet": named, "alike": "(one, other)"},
+            experiments: {"parting": "(one, other)", "shows_parting": "(one, other, calls)"},
+            strays: {
+                "least_stray": "(crew)", "counted": "(crew)", "with_removals": "(crew, places)",
+                "fewest_removals": "(crew)",
+            },
+        }
+        for module, functions in wanted.items():
+            for name, signature in functions.items():
+                made = getattr(module, name)
+                self.assertEqual(made.__module__, module.__name__)
+                self.assertEqual(str(inspect.signature(made)), signature)
 
 
 class Arguments(support.Case):

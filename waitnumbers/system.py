@@ -339,12 +339,9 @@ class System:
 
     def things(self):
         """The things that exist, by their names."""
-        found = []
-        for process in sorted(self.tables):
-            for thing in self.tables[process]:
-                if thing is not None and thing not in found:
-                    found.append(thing)
-        return found
+        tables = [self.tables[process] for process in sorted(self.tables)]
+        # A key keeps the place of its first time, which is the thing's name.
+        return list({thing: True for table in tables for thing in table if thing is not None})
 
     def numbers_of(self, thing):
         """The numbers that mean a thing, each with its process."""
@@ -371,8 +368,11 @@ class System:
         ])
 
     def state(self):
+        """All that equal systems have in common."""
+        return self.state_by(self.places())
+
+    def state_by(self, places):
         """All that equal systems have in common, things by their places."""
-        places = self.places()
         kept = [
             self.sources[thing] if thing in self.sources else self.sets[thing].contents(places)
             for thing in places
