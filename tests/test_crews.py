@@ -558,15 +558,15 @@ class Equality(support.Case):
 
     def test_a_source_that_has_ended_in_one(self):
         """In one the number means the source again, in the other a new one like it."""
-        text = "new_set 0; new_source 0; add 0 0 1 7 level; arrive 0 1 1; "
-        take = (0, (TAKE, CLOSE))
-        calls = support.calls_of("close 0 1; new_source 0; add 0 0 1 7 level; arrive 0 1 1")
-        renewed = crew_of(text, take, (0, tuple(("call", call) for call in calls)))
-        one, other = renewed.done((0, 1, 1, 1, 1)), renewed.done((1, 1, 1, 1, 0))
-        self.assertTrue(one.system() == other.system())
-        self.exactly([one.taken(0), other.taken(0)], [1, 1])
-        self.exactly([one.is_stray(0), other.is_stray(0)], [True, False])
-        self.unlike(one, other)
+        for text, made in (("new_set 0; new_source 0; ", (0, 1)), ("new_source 0; new_set 0; ", (1, 0))):
+            row = f"add 0 {made[0]} {made[1]} 7 level; arrive 0 {made[1]} 1"
+            again = support.calls_of(f"close 0 {made[1]}; new_source 0; " + row)
+            crew = crew_of(text + row, (0, (("take", made[0]), CLOSE)), (0, tuple(("call", call) for call in again)))
+            one, other = crew.done((0, 1, 1, 1, 1)), crew.done((1, 1, 1, 1, 0))
+            self.assertTrue(one.system() == other.system())
+            self.exactly([one.taken(0), other.taken(0)], [made[1], made[1]])
+            self.exactly([one.is_stray(0), other.is_stray(0)], [True, False])
+            self.unlike(one, other)
 
     def test_a_source_is_kept_by_its_name(self):
         """Its name may have changed since; other things in equal systems are the same ones."""

@@ -2,6 +2,7 @@
 
 import itertools
 import random
+import time
 import unittest
 
 import support
@@ -57,7 +58,11 @@ class HiddenByOneAnother(Pairs):
 
     def test_numbers_in_tables_of_three(self):
         full = "new_set 0; new_source 0; copy 0 1 2; "
-        for end in ("", "copy 0 0 1", "copy 0 0 2", "fork 0", "fork 0; copy 1 0 1; copy 1 0 2; copy 0 0 1"):
+        ends = ["", "copy 0 0 1", "copy 0 0 2", "fork 0", "fork 0; copy 1 0 1; copy 1 0 2; copy 0 0 1"]
+        # The set has a registration's number alone, and the source the other one or a third one.
+        ends += ["copy 0 0 1; close 0 0", "copy 0 0 2; close 0 0", "fork 0; close 0 0"]
+        ends += ["copy 0 0 1; copy 0 2 0", "copy 0 0 1; copy 0 2 0; close 0 2", "copy 0 0 2; copy 0 1 0; close 0 1"]
+        for end in ends:
             for one, other in (("7 edge", "8 edge"), ("7 once", "8 once"), ("8 level", "7 level")):
                 self.told(
                     full + "add 0 0 1 " + one + "; add 0 0 2 " + other + "; " + end,
@@ -100,7 +105,10 @@ class HiddenByOneAnother(Pairs):
     def test_places_of_quiet_ones_in_tables_of_three(self):
         full = "new_set 0; new_source 0; copy 0 1 2; "
         quiet = "arrive 0 1 1; wait 0 0 9; "
-        for end in ("", "read 0 1 -", "copy 0 0 1", "copy 0 0 2", "close 0 1", "close 0 2; new_source 0"):
+        for end in (
+            "", "read 0 1 -", "copy 0 0 1", "copy 0 0 2", "close 0 1", "close 0 2; new_source 0",
+            "copy 0 0 1; close 0 0", "copy 0 0 2; close 0 0", "copy 0 0 1; copy 0 2 0", "copy 0 0 2; copy 0 1 0; close 0 1",
+        ):
             self.told(
                 full + "add 0 0 1 7 once; add 0 0 2 8 once; " + quiet + end,
                 full + "add 0 0 2 8 once; add 0 0 1 7 once; " + quiet + end, processes=2, numbers=3,
@@ -134,6 +142,11 @@ class HiddenByOneAnother(Pairs):
                 both = TWO + rows + "arrive 0 1 1; read 0 1 -"
                 self.told(both + "; arrive 0 2 1; read 0 2 -" + end, both + end)
                 self.told(TWO + rows + "arrive 0 2 1; read 0 2 -" + end, TWO + rows.rstrip("; ") + end)
+
+    def test_pending_or_not_where_the_least_labels_are_taken(self):
+        for many in range(1, 6):
+            rows = adding([(label, 3 + label, 1 + label % 2, "edge") for label in range(many)])
+            self.told(TWO + rows + "arrive 0 1 1; read 0 1 -", TWO + rows.rstrip("; "))
 
     def test_pending_or_not_in_full_tables(self):
         for table in ("copy 0 1 2", "copy 0 0 2", "new_source 0", "new_set 0"):
@@ -322,6 +335,20 @@ class Largest(Pairs):
         other = support.system_of(text, 6, 8)
         self.assertIsNotNone(self.parted(one, other))
         self.assertIsNotNone(self.parted(other, one))
+
+
+class RunningTime(Pairs):
+    def test_the_largest_systems_answer_in_seconds(self):
+        arrivals = "; ".join(f"arrive {process} {number} 1" for process in range(6) for number in range(1, 8))
+        system = largest(more=arrivals)
+        begin = time.process_time()
+        for call in (("change", 5, 0, 7, "edge"), ("wait", 0, 0, 1), ("remove", 3, 0, 4), ("read", 5, 7, None)):
+            other = system.twin()
+            self.assertFalse(isinstance(other.answer(call), str))
+            self.assertIsNotNone(parting(system, other))
+            self.assertIsNotNone(parting(other, system))
+        self.exactly(parting(system, system.twin()), None)
+        self.assertLess(time.process_time() - begin, 10)
 
 
 class ShowsParting(Pairs):

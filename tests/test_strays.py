@@ -2,6 +2,7 @@
 
 import itertools
 import math
+import time
 import unittest
 
 import support
@@ -427,6 +428,23 @@ class Bounds(Checks):
         self.exactly(len(full), 18)
         self.exactly(least_stray(full), None)
         self.exactly(counted(full)[1], 0)
+
+
+class RunningTime(Checks):
+    def test_close_to_a_thousand_states_with_six_places(self):
+        steps = (TAKE, CLOSE, CLOSE)
+        places = [(worker, step) for worker in range(3) for step in (1, 2)]
+        calm = (0, (IDLE, IDLE, IDLE))
+        moving = (0, calling(("copy", 2, 0, 1)))
+        begin = time.process_time()
+        for last, wanted in ((calm, []), (moving, None)):
+            crew = crew_of(APART, (0, steps), (1, steps), (2, steps), last, processes=6, numbers=8)
+            full = with_removals(crew, places)
+            self.exactly(least_stray(full) is None, wanted == [])
+            self.exactly(counted(full)[1] > 0, wanted is None)
+            self.exactly(fewest_removals(crew), wanted)
+        self.exactly(least_stray(crew_of(MANY, *BOUND)), (1, 1, 3, 1))
+        self.assertLess(time.process_time() - begin, 10)
 
 
 class Conventions(Checks):
